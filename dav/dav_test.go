@@ -8,6 +8,7 @@ import (
 	"unicode/utf8"
 
 	"calepin/api"
+	"calepin/trial"
 	"calepin/xml"
 )
 
@@ -763,32 +764,23 @@ func TestSpoilt(t *testing.T) {
 	}
 }
 
-// draws is a row of numbers, the same ones at each run.
-type draws uint64
-
-// below is the next number of the row below n.
-func (d *draws) below(n int) int {
-	*d = *d*6364136223846793005 + 1442695040888963407
-	return int(uint64(*d)>>33) % n
-}
-
 func TestDrawn(t *testing.T) {
-	d := draws(9)
+	d := trial.Draws(9)
 	base, laid := right(), inserts()
 	counts := map[[2]api.Errno]int{}
 	for range 40000 {
-		ps := base[d.below(len(base))]
-		for range d.below(4) {
-			i := 1 + d.below(len(ps)-1)
-			in := laid[d.below(len(laid))]
-			if j := i; ps[i].Kind != api.Close && d.below(3) == 0 {
+		ps := base[d.Below(len(base))]
+		for range d.Below(4) {
+			i := 1 + d.Below(len(ps)-1)
+			in := laid[d.Below(len(laid))]
+			if j := i; ps[i].Kind != api.Close && d.Below(3) == 0 {
 				j = span(ps, i)
 				ps = slices.Concat(ps[:i], ps[j:])
 				continue
 			}
 			ps = slices.Concat(ps[:i], in, ps[i:])
 		}
-		asked, told := should(t, written(ps, []string{"", "\n", " <!-- -->"}[d.below(3)]))
+		asked, told := should(t, written(ps, []string{"", "\n", " <!-- -->"}[d.Below(3)]))
 		counts[[2]api.Errno{asked, told}]++
 	}
 	for _, sort := range [][2]api.Errno{{api.OK, api.ErrBody}, {api.ErrBody, api.OK}, {api.ErrBody, api.ErrBody}} {

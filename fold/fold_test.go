@@ -7,6 +7,7 @@ import (
 	"testing"
 
 	"calepin/api"
+	"calepin/trial"
 )
 
 // The chapter's rows and lines as patterns: an oracle of another make than the package's.
@@ -28,21 +29,6 @@ func unfolded(text string) ([]string, api.Errno) {
 	return parts[:len(parts)-1], api.OK
 }
 
-// every calls do with each text of at most most of the given pieces.
-func every(pieces []string, most int, do func(string)) {
-	var grow func(s string, left int)
-	grow = func(s string, left int) {
-		do(s)
-		if left == 0 {
-			return
-		}
-		for _, p := range pieces {
-			grow(s+p, left-1)
-		}
-	}
-	grow("", most)
-}
-
 // unfolds asks that Unfold answers just these lines, or this error.
 func unfolds(t *testing.T, text string, want []string, fault api.Errno) {
 	t.Helper()
@@ -54,11 +40,11 @@ func unfolds(t *testing.T, text string, want []string, fault api.Errno) {
 
 // P2.1: all short texts of the bytes that count, against the patterns.
 func TestUnfoldShortTexts(t *testing.T) {
-	every([]string{"A", " ", "\t", "\r", "\n"}, 7, func(s string) {
+	trial.Every([]string{"A", " ", "\t", "\r", "\n"}, 7, func(s string) {
 		want, fault := unfolded(s)
 		unfolds(t, s, want, fault)
 	})
-	every([]string{"a:b", " ", "\r\n", "\n", "\n\t", "\r\n ", "\r", "\xff"}, 5, func(s string) {
+	trial.Every([]string{"a:b", " ", "\r\n", "\n", "\n\t", "\r\n ", "\r", "\xff"}, 5, func(s string) {
 		want, fault := unfolded(s)
 		unfolds(t, s, want, fault)
 	})
@@ -144,7 +130,7 @@ func TestUnfoldNewMemory(t *testing.T) {
 // P2.2: all short lines of the bytes that count, and each byte at the beginning, within and at the end.
 func TestGood(t *testing.T) {
 	good := regexp.MustCompile(`^[^\r\n \t][^\r\n]*$`)
-	every([]string{"A", " ", "\t", "\r", "\n", "\xff"}, 5, func(s string) {
+	trial.Every([]string{"A", " ", "\t", "\r", "\n", "\xff"}, 5, func(s string) {
 		if Good(s) != good.MatchString(s) {
 			t.Errorf("Good(%q): %v", s, Good(s))
 		}
@@ -340,7 +326,7 @@ func TestFoldIsUnfoldedAtBlanks(t *testing.T) {
 			unfolds(t, Fold(line, "B", line), []string{line, "B", line}, api.OK)
 		}
 	}
-	every([]string{"A", " ", "\t", "\r", "\n", "é", "\xc3"}, 5, func(s string) {
+	trial.Every([]string{"A", " ", "\t", "\r", "\n", "é", "\xc3"}, 5, func(s string) {
 		if Good(s) {
 			unfolds(t, Fold(s, s), []string{s, s}, api.OK)
 		}

@@ -12,6 +12,7 @@ import (
 	"testing"
 
 	"calepin/api"
+	"calepin/trial"
 )
 
 // The chapter's form as patterns: an oracle of another make than the package's.
@@ -250,38 +251,27 @@ func everyByte(f func(c string)) {
 	}
 }
 
-// draws is a row of numbers, the same ones at each run.
-type draws uint64
-
-// below is the next number of the row below n.
-func (d *draws) below(n int) int {
-	*d = *d*6364136223846793005 + 1442695040888963407
-	return int(uint64(*d)>>33) % n
-}
-
-// of is one of the texts.
-func (d *draws) of(texts ...string) string {
-	return texts[d.below(len(texts))]
-}
+// draws is a row of numbers, the same ones at each run, and what is made of them.
+type draws struct{ trial.Draws }
 
 // message is the bytes of a request or a response, most often one without a fault, and something behind it.
 func (d *draws) message() string {
-	s := d.of("GET / HTTP/1.1\r\n", "PROPFIND /a%20b/x?y HTTP/1.1\r\n", "HTTP/1.1 200 OK\r\n", "HTTP/1.1 599 \r\n", "HTTP/1.1 404 Not here: at all\r\n")
-	for range d.below(5) {
-		s += d.of("Depth", "x-1", "X", "If-Match", "content-type", "Content-Lengt", "-") + ":" + d.of("", " ", "\t ", "  ") + d.of("", "1", "a b", "\"2\"\t,x", ":", "~!") + d.of("", "", " ", "\t") + "\r\n"
+	s := d.Of("GET / HTTP/1.1\r\n", "PROPFIND /a%20b/x?y HTTP/1.1\r\n", "HTTP/1.1 200 OK\r\n", "HTTP/1.1 599 \r\n", "HTTP/1.1 404 Not here: at all\r\n")
+	for range d.Below(5) {
+		s += d.Of("Depth", "x-1", "X", "If-Match", "content-type", "Content-Lengt", "-") + ":" + d.Of("", " ", "\t ", "  ") + d.Of("", "1", "a b", "\"2\"\t,x", ":", "~!") + d.Of("", "", " ", "\t") + "\r\n"
 	}
-	if d.below(3) > 0 {
-		s += d.of("Content-Length", "content-length", "CONTENT-LENGTH") + ":" + d.of("", " ", "\t") + d.of("0", "1", "5", "5", "17") + d.of("", " ") + "\r\n"
+	if d.Below(3) > 0 {
+		s += d.Of("Content-Length", "content-length", "CONTENT-LENGTH") + ":" + d.Of("", " ", "\t") + d.Of("0", "1", "5", "5", "17") + d.Of("", " ") + "\r\n"
 	}
-	return s + "\r\n" + d.of("", "12345", "\r\n\r\n\x00\xff", "some more bytes to read", "GET / HTTP/1.1\r\n\r\n")
+	return s + "\r\n" + d.Of("", "12345", "\r\n\r\n\x00\xff", "some more bytes to read", "GET / HTTP/1.1\r\n\r\n")
 }
 
 // spoilt is s with some bytes taken out, put in or doubled.
 func (d *draws) spoilt(s string) string {
-	for range 1 + d.below(2) {
-		i := d.below(len(s) + 1)
-		j := min(len(s), i+d.below(3))
-		s = s[:i] + d.of("", "", " ", "\t", "\r", "\n", "\r\n", "\r\n\r\n", ":", "A", "a", "0", "9", "-", "/", "\x00", "\x1f", "\x7f", "\xff", "é", "Transfer-Encoding: x\r\n", "Content-Length: 3\r\n", "Content-Length: 03\r\n", s[i:j]+s[i:j]) + s[j:]
+	for range 1 + d.Below(2) {
+		i := d.Below(len(s) + 1)
+		j := min(len(s), i+d.Below(3))
+		s = s[:i] + d.Of("", "", " ", "\t", "\r", "\n", "\r\n", "\r\n\r\n", ":", "A", "a", "0", "9", "-", "/", "\x00", "\x1f", "\x7f", "\xff", "é", "Transfer-Encoding: x\r\n", "Content-Length: 3\r\n", "Content-Length: 03\r\n", s[i:j]+s[i:j]) + s[j:]
 	}
 	return s
 }
@@ -515,7 +505,7 @@ func TestParseCodings(t *testing.T) {
 
 // P8.1: drawn messages, as they are and spoilt.
 func TestParseDrawn(t *testing.T) {
-	d := draws(8)
+	d := draws{8}
 	good := 0
 	for range 60000 {
 		b := d.message()
@@ -545,7 +535,7 @@ func headerIs(t *testing.T, b string, fields []api.Field, header stock.Header) {
 
 // P8.1: ordinary messages are read as the library's own reader reads them.
 func TestParseAsOthersDo(t *testing.T) {
-	d := draws(81)
+	d := draws{81}
 	held := 0
 	for range 20000 {
 		b := d.message()
@@ -706,11 +696,11 @@ func TestPrintBounds(t *testing.T) {
 
 // P8.4: drawn messages that were read are printed, and read as themselves.
 func TestPrintDrawn(t *testing.T) {
-	d := draws(84)
+	d := draws{84}
 	good := 0
 	for range 20000 {
 		b := d.message()
-		if d.below(2) == 0 {
+		if d.Below(2) == 0 {
 			b = d.spoilt(b)
 		}
 		if r, _, e := ParseRequest(b); e == api.OK {

@@ -9,6 +9,7 @@ import (
 
 	"calepin/api"
 	"calepin/char"
+	"calepin/trial"
 )
 
 // The chapter's form as patterns: an oracle of another make than the package's.
@@ -86,21 +87,6 @@ func asPatterns(t *testing.T, s string) {
 	parses(t, s, want, fault)
 }
 
-// every calls do with each text of at most most of the given pieces.
-func every(pieces []string, most int, do func(string)) {
-	var grow func(s string, left int)
-	grow = func(s string, left int) {
-		do(s)
-		if left == 0 {
-			return
-		}
-		for _, p := range pieces {
-			grow(s+p, left-1)
-		}
-	}
-	grow("", most)
-}
-
 // with is a line with the name A, the value 1 and these parameters.
 func with(ps ...api.Param) api.Line {
 	return api.Line{Name: "A", Params: ps, Value: "1"}
@@ -157,16 +143,16 @@ func TestNameTexts(t *testing.T) {
 // P3.1: all short texts of the bytes that count, alone and behind the beginnings of lines, against the patterns.
 func TestParseShortTexts(t *testing.T) {
 	pieces := []string{"A", ".", ";", "=", ",", ":", `"`, "^", " "}
-	every(pieces, 5, func(s string) {
+	trial.Every(pieces, 5, func(s string) {
 		for _, ahead := range []string{"", "a.", "A;B=", `A;B="`, "A;B=1,", "g.A;B=1;C="} {
 			asPatterns(t, ahead+s)
 		}
 	})
-	every([]string{"^", "n", "'", `"`, ",", ":"}, 6, func(s string) {
+	trial.Every([]string{"^", "n", "'", `"`, ",", ":"}, 6, func(s string) {
 		asPatterns(t, "A;B="+s+":1")
 		asPatterns(t, `A;B="`+s+`":1`)
 	})
-	every([]string{"A", ":", "\n", "\r", "\x00", "\xff", "\t", "é"}, 5, func(s string) { asPatterns(t, s) })
+	trial.Every([]string{"A", ":", "\n", "\r", "\x00", "\xff", "\t", "é"}, 5, func(s string) { asPatterns(t, s) })
 }
 
 // P3.1: each byte at each place of a line, against the patterns.
@@ -580,7 +566,7 @@ func TestPrintIsRead(t *testing.T) {
 		comesBack(t, l)
 		comesBack(t, Canon(l))
 	}
-	every([]string{"^", "n", "'", `"`, "\n", ",", ":"}, 5, func(s string) {
+	trial.Every([]string{"^", "n", "'", `"`, "\n", ",", ":"}, 5, func(s string) {
 		comesBack(t, with(par("B", s), par("C", "", s)))
 	})
 	long := strings.Repeat("^\"\n,é", 20000)
@@ -589,7 +575,7 @@ func TestPrintIsRead(t *testing.T) {
 
 // P3.3: what is read can be printed, and is then read as the same line again.
 func TestParsedIsPrinted(t *testing.T) {
-	every([]string{"A", ".", ";B=", "=", ",", ":", `"`, "^", "n"}, 6, func(s string) {
+	trial.Every([]string{"A", ".", ";B=", "=", ",", ":", `"`, "^", "n"}, 6, func(s string) {
 		if l, e := Parse(s); e == api.OK {
 			comesBack(t, l)
 		}

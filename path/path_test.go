@@ -8,6 +8,7 @@ import (
 	"unicode/utf8"
 
 	"calepin/api"
+	"calepin/trial"
 )
 
 // The chapter's form as patterns: an oracle of another make than the package's.
@@ -133,14 +134,8 @@ func shorts(letters string, n int, f func(string)) {
 	}
 }
 
-// draws is a row of numbers, the same ones at each run.
-type draws uint64
-
-// below is the next number of the row below n.
-func (d *draws) below(n int) int {
-	*d = *d*6364136223846793005 + 1442695040888963407
-	return int(uint64(*d)>>33) % n
-}
+// draws is a row of numbers, the same ones at each run, and what is made of them.
+type draws struct{ trial.Draws }
 
 // text is a text made of pieces that are near the edges.
 func (d *draws) text() string {
@@ -148,12 +143,12 @@ func (d *draws) text() string {
 		"\x00", "\x1f", "\x7f", "\xff", "\xc3", "\u0080", strings.Repeat("b", 30), strings.Repeat("ü", 15)}
 	// Mostly from those that may stand, so that not nearly all are none.
 	known := len(pieces)
-	if d.below(4) > 0 {
+	if d.Below(4) > 0 {
 		known = 18
 	}
 	var s strings.Builder
-	for range d.below(8) {
-		s.WriteString(pieces[d.below(known)])
+	for range d.Below(8) {
+		s.WriteString(pieces[d.Below(known)])
 	}
 	return s.String()
 }
@@ -256,7 +251,7 @@ func TestOfIsParsedAgain(t *testing.T) {
 			ofIs(t, "a", string([]byte{b, c}))
 		})
 	})
-	d := draws(6)
+	d := draws{6}
 	for range 50000 {
 		ofIs(t, d.text(), d.text())
 	}
@@ -329,11 +324,11 @@ func TestParseBound(t *testing.T) {
 // P6.2: texts of drawn pieces are read as the patterns say.
 func TestParseDrawn(t *testing.T) {
 	pieces := []string{"/", "/", "a", "B", "7", ".", "..", "~", "%20", "%2f", "%C3%A9", "%e2%82%ac", "%00", "%", "%4", " ", "é", "%2E", strings.Repeat("c", 31)}
-	d := draws(62)
+	d := draws{62}
 	for range 200000 {
 		p := "/"
-		for range d.below(9) {
-			p += pieces[d.below(len(pieces))]
+		for range d.Below(9) {
+			p += pieces[d.Below(len(pieces))]
 		}
 		parseShould(t, p)
 	}

@@ -8,6 +8,7 @@ import (
 	"testing"
 
 	"calepin/api"
+	"calepin/trial"
 )
 
 // The chapter's form as patterns: an oracle of another make than the package's.
@@ -95,21 +96,6 @@ func asPatterns(t *testing.T, s string) {
 	fieldsAre(t, s, fs, api.OK)
 }
 
-// every calls do with each text of at most most of the given pieces.
-func every(pieces []string, most int, do func(string)) {
-	var grow func(s string, left int)
-	grow = func(s string, left int) {
-		do(s)
-		if left == 0 {
-			return
-		}
-		for _, p := range pieces {
-			grow(s+p, left-1)
-		}
-	}
-	grow("", most)
-}
-
 // byteText is the text of one byte.
 func byteText(i int) string {
 	return string([]byte{byte(i)})
@@ -117,8 +103,8 @@ func byteText(i int) string {
 
 // P4.1: all short texts of the bytes that count, alone and behind the beginnings of values, against the patterns.
 func TestReadShortTexts(t *testing.T) {
-	every([]string{`\`, ",", ";", "n", "N", "a"}, 6, func(s string) { asPatterns(t, s) })
-	every([]string{`\`, ",", ";", "n", "\n", "é"}, 4, func(s string) {
+	trial.Every([]string{`\`, ",", ";", "n", "N", "a"}, 6, func(s string) { asPatterns(t, s) })
+	trial.Every([]string{`\`, ",", ";", "n", "\n", "é"}, 4, func(s string) {
 		for _, ahead := range []string{"a,b;c", `\\`, `a\,;`, `\`, ";;,"} {
 			asPatterns(t, ahead+s)
 			asPatterns(t, s+ahead)
@@ -346,7 +332,7 @@ func TestPutFields(t *testing.T) {
 
 // P4.3: what is put is read again: every short text, alone, in lists and in fields.
 func TestPutIsRead(t *testing.T) {
-	every([]string{`\`, ",", ";", "\n", "n", "é", "\xff"}, 5, func(s string) {
+	trial.Every([]string{`\`, ",", ";", "\n", "n", "é", "\xff"}, 5, func(s string) {
 		textIs(t, PutText(s), s, api.OK)
 		for _, ts := range [][]string{{s}, {s, ""}, {"", s}, {s, s}, {"a", s, "b"}} {
 			listIs(t, PutList(ts...), ts, api.OK)

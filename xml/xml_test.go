@@ -15,6 +15,7 @@ import (
 	"unicode/utf8"
 
 	"calepin/api"
+	"calepin/trial"
 )
 
 // The chapter's form as patterns: an oracle of another make than the package's.
@@ -312,57 +313,46 @@ func nest(n int, inner string) string {
 	return strings.Repeat("<a>", n) + inner + strings.Repeat("</a>", n)
 }
 
-// draws is a row of numbers, the same ones at each run.
-type draws uint64
-
-// below is the next number of the row below n.
-func (d *draws) below(n int) int {
-	*d = *d*6364136223846793005 + 1442695040888963407
-	return int(uint64(*d)>>33) % n
-}
-
-// of is one of the texts.
-func (d *draws) of(texts ...string) string {
-	return texts[d.below(len(texts))]
-}
+// draws is a row of numbers, the same ones at each run, and what is made of them.
+type draws struct{ trial.Draws }
 
 // element is the text of an element, most often one without a fault.
 func (d *draws) element(depth int) string {
-	name := d.of("a", "b", "p:a", "q:b", "_", "a.-9", "D:href")
+	name := d.Of("a", "b", "p:a", "q:b", "_", "a.-9", "D:href")
 	s := "<" + name
-	for range d.below(3) {
-		s += d.of(" ", "\n", "\t ", "\r\n") + "xmlns" + d.of("", ":p", ":q", ":D", ":C")
-		s += "=" + d.of(`"DAV:"`, `'DAV:'`, `"urn:ietf:params:xml:ns:carddav"`, `""`, `"&amp;'"`, `'">'`, `'u'`)
+	for range d.Below(3) {
+		s += d.Of(" ", "\n", "\t ", "\r\n") + "xmlns" + d.Of("", ":p", ":q", ":D", ":C")
+		s += "=" + d.Of(`"DAV:"`, `'DAV:'`, `"urn:ietf:params:xml:ns:carddav"`, `""`, `"&amp;'"`, `'">'`, `'u'`)
 	}
 	if !strings.Contains(s, "xmlns:") && strings.Contains(name, ":") {
 		s += ` xmlns:` + name[:1] + `="DAV:"`
 	}
-	s += d.of("", "", " ", "\n\t")
-	if d.below(3) == 0 || depth == 0 {
+	s += d.Of("", "", " ", "\n\t")
+	if d.Below(3) == 0 || depth == 0 {
 		return s + "/>"
 	}
 	s += ">"
-	for range d.below(5) {
-		if d.below(2) == 0 {
+	for range d.Below(5) {
+		if d.Below(2) == 0 {
 			s += d.element(depth - 1)
 			continue
 		}
-		s += d.of("x", " ", "\r\n", "é", "]]>", `"'`, "&amp;", "&lt;", "&gt;", "&quot;", "&apos;", "&#13;", "&#32;", "&#233;", "&#x1F600;", "&#xe9;", "<!--x-->", "<!-- - -->", "<!---->")
+		s += d.Of("x", " ", "\r\n", "é", "]]>", `"'`, "&amp;", "&lt;", "&gt;", "&quot;", "&apos;", "&#13;", "&#32;", "&#233;", "&#x1F600;", "&#xe9;", "<!--x-->", "<!-- - -->", "<!---->")
 	}
-	return s + "</" + name + d.of("", "", " ") + ">"
+	return s + "</" + name + d.Of("", "", " ") + ">"
 }
 
 // document is the text of a document, most often one without a fault.
 func (d *draws) document() string {
-	return d.of("", "<?xml?>", "<?xml version='1.0'?>") + d.of("", " ", "\n<!--x-->", "<!----> ") + d.element(4) + d.of("", "", "\r\n", "<!--y-->")
+	return d.Of("", "<?xml?>", "<?xml version='1.0'?>") + d.Of("", " ", "\n<!--x-->", "<!----> ") + d.element(4) + d.Of("", "", "\r\n", "<!--y-->")
 }
 
 // spoilt is s with some bytes taken out, put in or doubled.
 func (d *draws) spoilt(s string) string {
-	for range 1 + d.below(2) {
-		i := d.below(len(s) + 1)
-		j := min(len(s), i+d.below(3))
-		s = s[:i] + d.of("", "", "<", ">", "/", "&", ";", ":", "=", `"`, "'", " ", "-", "--", "<!--", "-->", "a", "x", "0", "#", "xmlns", "<a/>", "é", "\x00", "\xff", s[i:j]+s[i:j]) + s[j:]
+	for range 1 + d.Below(2) {
+		i := d.Below(len(s) + 1)
+		j := min(len(s), i+d.Below(3))
+		s = s[:i] + d.Of("", "", "<", ">", "/", "&", ";", ":", "=", `"`, "'", " ", "-", "--", "<!--", "-->", "a", "x", "0", "#", "xmlns", "<a/>", "é", "\x00", "\xff", s[i:j]+s[i:j]) + s[j:]
 	}
 	return s
 }
@@ -599,7 +589,7 @@ func TestParseShort(t *testing.T) {
 
 // P7.1, P7.3: drawn documents, as they are and spoilt.
 func TestParseDrawn(t *testing.T) {
-	d := draws(7)
+	d := draws{7}
 	good := 0
 	for range 40000 {
 		s := d.document()
@@ -642,7 +632,7 @@ func told(s string) ([]api.Piece, error) {
 
 // P7.1: ordinary documents are read as the library's own decoder reads them.
 func TestParseAsOthersDo(t *testing.T) {
-	d := draws(71)
+	d := draws{71}
 	held := 0
 	for range 20000 {
 		s := d.document()
@@ -788,7 +778,7 @@ func TestPrintBound(t *testing.T) {
 
 // P7.2, P7.3: drawn pieces, as they are and spoilt.
 func TestPiecesDrawn(t *testing.T) {
-	d := draws(72)
+	d := draws{72}
 	good := 0
 	for range 30000 {
 		ps, e := Parse(d.document())
@@ -799,16 +789,16 @@ func TestPiecesDrawn(t *testing.T) {
 		if Check(ps) == api.OK {
 			good++
 		}
-		i := d.below(len(ps))
-		switch d.below(4) {
+		i := d.Below(len(ps))
+		switch d.Below(4) {
 		case 0:
 			ps = slices.Delete(ps, i, i+1)
 		case 1:
-			ps = slices.Insert(ps, i, ps[d.below(len(ps))])
+			ps = slices.Insert(ps, i, ps[d.Below(len(ps))])
 		case 2:
-			ps[i] = []api.Piece{chars("x"), chars(" "), open(api.DavSpace, "a"), end(api.DavSpace, "a"), {}}[d.below(5)]
+			ps[i] = []api.Piece{chars("x"), chars(" "), open(api.DavSpace, "a"), end(api.DavSpace, "a"), {}}[d.Below(5)]
 		case 3:
-			ps[i].Space = api.Space(d.below(3))
+			ps[i].Space = api.Space(d.Below(3))
 		}
 		piecesShould(t, ps)
 	}

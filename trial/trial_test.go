@@ -1,0 +1,33 @@
+package trial
+
+import (
+	"slices"
+	"testing"
+)
+
+// Every text of at most two of two pieces, each once.
+func TestEvery(t *testing.T) {
+	var got []string
+	Every([]string{"a", "bc"}, 2, func(s string) { got = append(got, s) })
+	if want := []string{"", "a", "aa", "abc", "bc", "bca", "bcbc"}; !slices.Equal(got, want) {
+		t.Errorf("%q, want %q", got, want)
+	}
+}
+
+// Each number below the bound comes, none above it, and the same row at each run.
+func TestDraws(t *testing.T) {
+	a, b, counts := Draws(1), Draws(1), [7]int{}
+	for range 7000 {
+		n := a.Below(7)
+		if n < 0 || n >= 7 || b.Below(7) != n {
+			t.Fatalf("drawn %d", n)
+		}
+		counts[n]++
+	}
+	if slices.Min(counts[:]) < 500 {
+		t.Errorf("drawn unevenly: %d", counts)
+	}
+	if s := a.Of("x"); s != "x" {
+		t.Errorf("drawn %q", s)
+	}
+}
