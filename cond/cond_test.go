@@ -173,17 +173,7 @@ func TestShortTexts(t *testing.T) {
 // P10.1, P10.2: each byte laid in, put for another one, and one taken out, at each place of conditions and tags.
 func TestEachByte(t *testing.T) {
 	for _, s := range []string{`"1"`, `"120"`, `"1","20"`, " \"1\" ,\t\"20\"\t", "*", "\t* ", `"4611686018427387904"`, `"461168601842738790"`, `"18446744073709551"`} {
-		for at := 0; at <= len(s); at++ {
-			for b := range 256 {
-				asPatterns(t, s[:at]+string([]byte{byte(b)})+s[at:])
-				if at < len(s) {
-					asPatterns(t, s[:at]+string([]byte{byte(b)})+s[at+1:])
-				}
-			}
-			if at < len(s) {
-				asPatterns(t, s[:at]+s[at+1:])
-			}
-		}
+		trial.Beside(s, func(s string) { asPatterns(t, s) })
 	}
 }
 

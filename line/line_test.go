@@ -158,15 +158,7 @@ func TestParseShortTexts(t *testing.T) {
 // P3.1: each byte at each place of a line, against the patterns.
 func TestParseBytes(t *testing.T) {
 	const s = `g.AB;C=x,"y";D-1=^n,z^:v`
-	for i := 0; i < 256; i++ {
-		c := string([]byte{byte(i)})
-		for at := 0; at <= len(s); at++ {
-			asPatterns(t, s[:at]+c+s[at:])
-			if at < len(s) {
-				asPatterns(t, s[:at]+c+s[at+1:])
-			}
-		}
-	}
+	trial.Beside(s, func(s string) { asPatterns(t, s) })
 	for at := 0; at <= len(s); at++ {
 		asPatterns(t, s[:at])
 		asPatterns(t, s[at:])

@@ -17,6 +17,23 @@ func grow(s string, pieces []string, left int, do func(string)) {
 	}
 }
 
+// Beside calls do with each text that is s but for one byte: laid in, put for another one (or for itself), or taken out.
+func Beside(s string, do func(string)) {
+	for at := 0; at <= len(s); at++ {
+		ahead, behind := s[:at], s[at:]
+		for i := range 256 {
+			b := string([]byte{byte(i)})
+			do(ahead + b + behind)
+			if behind != "" {
+				do(ahead + b + behind[1:])
+			}
+		}
+		if behind != "" {
+			do(ahead + behind[1:])
+		}
+	}
+}
+
 // Draws is a row of numbers that look drawn, the same ones at each run.
 type Draws uint64
 

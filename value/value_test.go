@@ -115,15 +115,7 @@ func TestReadShortTexts(t *testing.T) {
 // P4.1: each byte at each place of a value, against the patterns.
 func TestReadBytes(t *testing.T) {
 	const s = `Do\,e;Jo\\,A\nnn\N;\;,;`
-	for i := range 256 {
-		c := byteText(i)
-		for at := range len(s) + 1 {
-			asPatterns(t, s[:at]+c+s[at:])
-			if at < len(s) {
-				asPatterns(t, s[:at]+c+s[at+1:])
-			}
-		}
-	}
+	trial.Beside(s, func(s string) { asPatterns(t, s) })
 	for at := range len(s) + 1 {
 		asPatterns(t, s[:at])
 		asPatterns(t, s[at:])
