@@ -1,0 +1,118 @@
+// Package lay has numbers, texts and flags as bytes: laid one behind the other, and read again. The layers that keep or send bytes share it.
+package lay
+
+import (
+	"math"
+
+	"calepin/api"
+)
+
+// Number is b with n behind it, in eight bytes, the greatest first.
+func Number(b []byte, n int) []byte {
+	for shift := 56; shift >= 0; shift -= 8 {
+		b = append(b, byte(uint64(n)>>shift))
+	}
+	return b
+}
+
+// Text is b with t behind it: its length and its bytes.
+func Text(b []byte, t string) []byte {
+	return append(Number(b, len(t)), t...)
+}
+
+// Flag is b with a byte behind it: 1, if yes, else 0.
+func Flag(b []byte, yes bool) []byte {
+	if yes {
+		return append(b, 1)
+	}
+	return append(b, 0)
+}
+
+// Reader reads bytes from the front on. It never stops for a fault: what it answers behind one doesn't count, and End tells which it was.
+type Reader struct {
+	left         []byte
+	short, wrong bool
+}
+
+// Of is a reader of b, which it reads and doesn't change.
+func Of(b []byte) *Reader {
+	return &Reader{left: b}
+}
+
+// Number is a number of eight bytes, which must be from low to high.
+func (r *Reader) Number(low, high int) int {
+	n := r.word()
+	if n > math.MaxInt || int(n) < low || int(n) > high {
+		r.wrong = true
+		return 0
+	}
+	return int(n)
+}
+
+// Count is how many things stand behind: no more than there are bytes, so that a loop over them always ends.
+func (r *Reader) Count() int {
+	n := r.word()
+	if n > uint64(len(r.left)) {
+		r.end()
+		return 0
+	}
+	return int(n)
+}
+
+// Text is a text, in new memory.
+func (r *Reader) Text() string {
+	return string(r.take(r.Count()))
+}
+
+// Flag is a byte that must be 1 or 0: is it 1?
+func (r *Reader) Flag() bool {
+	b := r.take(1)
+	if b == nil {
+		return false
+	}
+	r.Need(b[0] <= 1)
+	return b[0] == 1
+}
+
+// Need says that what was read isn't formed as it must be, unless right.
+func (r *Reader) Need(right bool) {
+	r.wrong = r.wrong || !right
+}
+
+// End tells of all that was read the first of ErrShort: the bytes ended too early; ErrTrail: some are left; ErrForm.
+func (r *Reader) End() api.Errno {
+	switch {
+	case r.short:
+		return api.ErrShort
+	case len(r.left) > 0:
+		return api.ErrTrail
+	case r.wrong:
+		return api.ErrForm
+	}
+	return api.OK
+}
+
+// word is a number of eight bytes.
+func (r *Reader) word() uint64 {
+	var n uint64
+	for _, b := range r.take(8) {
+		n = n<<8 | uint64(b)
+	}
+	return n
+}
+
+// take is the next n bytes: none, if there aren't so many.
+func (r *Reader) take(n int) []byte {
+	if n > len(r.left) {
+		r.end()
+		return nil
+	}
+	b := r.left[:n]
+	r.left = r.left[n:]
+	return b
+}
+
+// end says that the bytes ended too early. None are left, so that all that is read behind it ends too early as well.
+func (r *Reader) end() {
+	r.short, r.left = true, nil
+}
