@@ -40,8 +40,7 @@ type changeRecord struct {
 
 // bytes is the record as a shelf's bytes.
 func (r record) bytes() []byte {
-	number := binary.BigEndian.AppendUint64
-	text := func(b []byte, s string) []byte { return append(number(b, uint64(len(s))), s...) }
+	number, text := trial.PutNumber, trial.PutText
 	b := number(number(nil, r.change), uint64(len(r.books)))
 	for _, x := range r.books {
 		b = number(number(number(text(b, x.name), x.made), x.horizon), uint64(len(x.cards)))
@@ -56,51 +55,19 @@ func (r record) bytes() []byte {
 	return b
 }
 
-// scan reads bytes into a record, giving up by a panic where they end too early.
-type scan struct{ left []byte }
-
-func (s *scan) bytes(n uint64) []byte {
-	if n > uint64(len(s.left)) {
-		panic(api.ErrShort)
-	}
-	b := s.left[:n]
-	s.left = s.left[n:]
-	return b
-}
-
-func (s *scan) number() uint64 { return binary.BigEndian.Uint64(s.bytes(8)) }
-func (s *scan) text() string   { return string(s.bytes(s.number())) }
-
-// each calls do as often as a count says.
-func (s *scan) each(do func()) {
-	n := s.number()
-	if n > uint64(len(s.left)) {
-		panic(api.ErrShort)
-	}
-	for range n {
-		do()
-	}
-}
-
 // recorded is the record of bytes, or the error for which there is none.
-func recorded(b []byte) (r record, e api.Errno) {
-	defer func() {
-		if x := recover(); x != nil {
-			r, e = record{}, x.(api.Errno)
-		}
-	}()
-	s := &scan{b}
-	r.change = s.number()
-	s.each(func() {
-		x := bookRecord{name: s.text(), made: s.number(), horizon: s.number()}
-		s.each(func() { x.cards = append(x.cards, cardRecord{s.text(), s.number(), s.text()}) })
-		s.each(func() { x.journal = append(x.journal, changeRecord{s.number(), s.text(), s.bytes(1)[0]}) })
-		r.books = append(r.books, x)
+func recorded(b []byte) (record, api.Errno) {
+	var r record
+	e := trial.Scanned(b, func(s *trial.Scan) {
+		r.change = s.Number()
+		s.Each(func() {
+			x := bookRecord{name: s.Text(), made: s.Number(), horizon: s.Number()}
+			s.Each(func() { x.cards = append(x.cards, cardRecord{s.Text(), s.Number(), s.Text()}) })
+			s.Each(func() { x.journal = append(x.journal, changeRecord{s.Number(), s.Text(), s.Bytes(1)[0]}) })
+			r.books = append(r.books, x)
+		})
 	})
-	if len(s.left) > 0 {
-		panic(api.ErrTrail)
-	}
-	return r, api.OK
+	return r, e
 }
 
 // named tells whether segments stand for all names, and whether they rise.
@@ -154,13 +121,8 @@ func (x bookRecord) formed(change uint64) bool {
 // loads asks that Load answers just this error, or a shelf of just these bytes.
 func loads(t *testing.T, what string, b []byte, want api.Errno) {
 	t.Helper()
-	was := string(b)
-	s, e := Load(b)
-	if e != want || (s == nil) != (e != api.OK) {
-		t.Errorf("%s: %d, want %d", what, e, want)
-	}
-	if s != nil && string(s.Form()) != was || string(b) != was {
-		t.Errorf("%s: other bytes", what)
+	if wrong := trial.Loads(Load, b, want); wrong != "" {
+		t.Errorf("%s: %s", what, wrong)
 	}
 }
 
@@ -354,10 +316,6 @@ func TestLoadDrawn(t *testing.T) {
 	d := trial.Draws(12)
 	b := sample().bytes()
 	for range 50000 {
-		c := slices.Clone(b)
-		for range 1 + d.Below(3) {
-			c[d.Below(len(c))] = byte(d.Below(10) * d.Below(29))
-		}
-		asOracle(t, c[:len(c)-d.Below(2)*d.Below(len(c))])
+		asOracle(t, d.Spoilt(b))
 	}
 }

@@ -1,7 +1,6 @@
 package book
 
 import (
-	"encoding/binary"
 	"fmt"
 	"maps"
 	"slices"
@@ -270,8 +269,8 @@ func differing(was, now map[string]event) []api.Entry {
 
 // form is the model's bytes.
 func (m *model) form() []byte {
-	number := func(b []byte, n int) []byte { return binary.BigEndian.AppendUint64(b, uint64(n)) }
-	text := func(b []byte, s string) []byte { return append(number(b, len(s)), s...) }
+	number := func(b []byte, n int) []byte { return trial.PutNumber(b, uint64(n)) }
+	text := trial.PutText
 	b := number(number(nil, m.change), len(m.books))
 	for _, name := range slices.Sorted(maps.Keys(m.books)) {
 		h := m.books[name]

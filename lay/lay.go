@@ -1,4 +1,4 @@
-// Package lay has numbers, texts and flags as bytes: laid one behind the other, and read again. The layers that keep or send bytes share it.
+// Package lay has numbers, texts, flags, lists and replies as bytes: laid one behind the other, and read again. The layers that keep or send bytes share it.
 package lay
 
 import (
@@ -26,6 +26,32 @@ func Flag(b []byte, yes bool) []byte {
 		return append(b, 1)
 	}
 	return append(b, 0)
+}
+
+// List is b with a list behind it: how many, and what put lays of each.
+func List[T any](b []byte, all []T, put func([]byte, T) []byte) []byte {
+	b = Number(b, len(all))
+	for _, x := range all {
+		b = put(b, x)
+	}
+	return b
+}
+
+// Reply is b with a reply behind it.
+func Reply(b []byte, r api.Reply) []byte {
+	b = Number(b, r.Status)
+	b = Number(b, r.Tag)
+	b = Text(b, r.Data)
+	b = List(b, r.Entries, putEntry)
+	return Text(b, r.Token)
+}
+
+// putEntry is b with an entry of a reply behind it.
+func putEntry(b []byte, x api.Entry) []byte {
+	b = Text(b, x.Name)
+	b = Number(b, x.Tag)
+	b = Text(b, x.Data)
+	return Flag(b, x.Gone)
 }
 
 // Reader reads bytes from the front on. It never stops for a fault: what it answers behind one doesn't count, and End tells which it was.
@@ -72,6 +98,26 @@ func (r *Reader) Flag() bool {
 	}
 	r.Need(b[0] <= 1)
 	return b[0] == 1
+}
+
+// Listed is a list: how many, and each as get reads it. Where the bytes end too early it stops, however many there should be.
+func Listed[T any](r *Reader, get func() T) []T {
+	var all []T
+	for range r.Count() {
+		if r.short {
+			break
+		}
+		all = append(all, get())
+	}
+	return all
+}
+
+// Reply is a reply, whose numbers are read by number: which ones may be is its caller's to say.
+func (r *Reader) Reply(number func() int) api.Reply {
+	entry := func() api.Entry {
+		return api.Entry{Name: r.Text(), Tag: number(), Data: r.Text(), Gone: r.Flag()}
+	}
+	return api.Reply{Status: number(), Tag: number(), Data: r.Text(), Entries: Listed(r, entry), Token: r.Text()}
 }
 
 // Need says that what was read isn't formed as it must be, unless right.

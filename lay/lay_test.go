@@ -3,6 +3,8 @@ package lay
 import (
 	"encoding/binary"
 	"math"
+	"reflect"
+	"slices"
 	"testing"
 
 	"calepin/api"
@@ -102,4 +104,65 @@ func TestEnd(t *testing.T) {
 			t.Errorf("something behind the end, count %d", n)
 		}
 	}, api.ErrShort)
+}
+
+// A list is how many and each, and is read so.
+func TestList(t *testing.T) {
+	for _, all := range [][]int{nil, {7}, {7, 8, 7}} {
+		b := List([]byte("x"), all, Number)
+		want := Number([]byte("x"), len(all))
+		for _, n := range all {
+			want = Number(want, n)
+		}
+		if string(b) != string(want) {
+			t.Errorf("List %d: %q, want %q", all, b, want)
+		}
+		ends(t, "list", b[1:], func(r *Reader) {
+			if got := Listed(r, func() int { return r.Number(7, 8) }); !slices.Equal(got, all) {
+				t.Errorf("Listed %d, want %d", got, all)
+			}
+		}, api.OK)
+	}
+}
+
+// A list that is too short is read to the end of the bytes, and not further.
+func TestListedShort(t *testing.T) {
+	for n, want := range []api.Errno{api.OK, api.OK, api.OK, api.ErrShort, api.ErrShort, api.ErrShort} {
+		calls := 0
+		ends(t, "list", append(Number(nil, n), make([]byte, 8*min(n, 2))...), func(r *Reader) {
+			Listed(r, func() int { calls++; return r.Number(0, 0) })
+		}, want)
+		if calls > 3 {
+			t.Errorf("%d calls for two numbers", calls)
+		}
+	}
+	ends(t, "more than bytes", Number(nil, 1<<62), func(r *Reader) {
+		if got := Listed(r, func() int { t.Errorf("called"); return 0 }); len(got) != 0 {
+			t.Errorf("Listed %d", got)
+		}
+	}, api.ErrShort)
+}
+
+// A reply is its fields one behind the other, and is read again by numbers of any bounds.
+func TestReply(t *testing.T) {
+	full := api.Reply{Status: 207, Tag: 1 << 62, Data: "d", Entries: []api.Entry{{Name: "n", Tag: 3, Data: "m"}, {Gone: true}}, Token: "t"}
+	b := Number(Number([]byte("x"), 207), 1<<62)
+	b = Number(Text(b, "d"), 2)
+	b = append(Text(Number(Text(b, "n"), 3), "m"), 0)
+	b = append(Text(Number(Text(b, ""), 0), ""), 1)
+	b = Text(b, "t")
+	if got := Reply([]byte("x"), full); string(got) != string(b) {
+		t.Errorf("Reply: %q, want %q", got, b)
+	}
+	for _, want := range []api.Reply{full, {}} {
+		ends(t, "reply", Reply(nil, want), func(r *Reader) {
+			if got := r.Reply(func() int { return r.Number(0, 1<<62) }); !reflect.DeepEqual(got, want) {
+				t.Errorf("%v, want %v", got, want)
+			}
+		}, api.OK)
+	}
+	ends(t, "a number too great", b[1:], func(r *Reader) { r.Reply(func() int { return r.Number(0, 1<<62-1) }) }, api.ErrForm)
+	for n := range len(b) - 1 {
+		ends(t, "short reply", b[1:1+n], func(r *Reader) { r.Reply(func() int { return r.Number(0, 1<<62) }) }, api.ErrShort)
+	}
 }
