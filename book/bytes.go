@@ -11,35 +11,32 @@ const greatest = 1 << 62
 
 // Form is the shelf's bytes.
 func (s *Shelf) Form() []byte {
-	return putNamed(lay.Number(nil, s.change), s.books, putBook)
+	var w lay.Writer
+	w.Number(s.change)
+	putNamed(&w, s.books, func(c *collection) { putBook(&w, c) })
+	return w.Bytes()
 }
 
-// putNamed is b with a map behind it: how many, and by name each name and what put lays of it.
-func putNamed[T any](b []byte, named map[string]T, put func([]byte, T) []byte) []byte {
-	b = lay.Number(b, len(named))
-	for _, name := range names(named) {
-		b = put(lay.Text(b, name), named[name])
-	}
-	return b
+// putNamed lays a map: how many, and by name each name and what put lays of it.
+func putNamed[T any](w *lay.Writer, named map[string]T, put func(T)) {
+	lay.List(w, names(named), func(name string) {
+		w.Text(name)
+		put(named[name])
+	})
 }
 
-// putBook is b with a collection behind it.
-func putBook(b []byte, c *collection) []byte {
-	b = lay.Number(b, c.made)
-	b = lay.Number(b, c.horizon)
-	b = putNamed(b, c.cards, putCard)
-	b = lay.Number(b, len(c.journal))
-	for _, x := range c.journal {
-		b = lay.Number(b, x.at)
-		b = lay.Text(b, x.name)
-		b = lay.Flag(b, x.was)
-	}
-	return b
-}
-
-// putCard is b with a card behind it.
-func putCard(b []byte, k kept) []byte {
-	return lay.Text(lay.Number(b, k.tag), k.text)
+// putBook lays a collection.
+func putBook(w *lay.Writer, c *collection) {
+	w.Numbers(c.made, c.horizon)
+	putNamed(w, c.cards, func(k kept) {
+		w.Number(k.tag)
+		w.Text(k.text)
+	})
+	lay.List(w, c.journal, func(x change) {
+		w.Number(x.at)
+		w.Text(x.name)
+		w.Flag(x.was)
+	})
 }
 
 // Load is the shelf of these bytes: else the first of ErrShort, ErrTrail, ErrForm.

@@ -7,51 +7,79 @@ import (
 	"calepin/api"
 )
 
-// Number is b with n behind it, in eight bytes, the greatest first.
-func Number(b []byte, n int) []byte {
+// Writer lays bytes one behind the other. The zero one has none yet.
+type Writer struct {
+	laid []byte
+}
+
+// Bytes is all that was laid.
+func (w *Writer) Bytes() []byte {
+	return w.laid
+}
+
+// Byte lays one byte.
+func (w *Writer) Byte(n byte) {
+	w.laid = append(w.laid, n)
+}
+
+// Number lays a number modulo 2^64: eight bytes, the greatest first.
+func (w *Writer) Number(n int) {
 	for shift := 56; shift >= 0; shift -= 8 {
-		b = append(b, byte(uint64(n)>>shift))
+		w.Byte(byte(uint64(n) >> shift))
 	}
-	return b
 }
 
-// Text is b with t behind it: its length and its bytes.
-func Text(b []byte, t string) []byte {
-	return append(Number(b, len(t)), t...)
+// Numbers lays each of them.
+func (w *Writer) Numbers(all ...int) {
+	for _, n := range all {
+		w.Number(n)
+	}
 }
 
-// Flag is b with a byte behind it: 1, if yes, else 0.
-func Flag(b []byte, yes bool) []byte {
+// Text lays a text: its length and its bytes.
+func (w *Writer) Text(t string) {
+	w.Number(len(t))
+	w.laid = append(w.laid, t...)
+}
+
+// Texts lays each of them.
+func (w *Writer) Texts(all ...string) {
+	for _, t := range all {
+		w.Text(t)
+	}
+}
+
+// Flag lays one byte: 1, if yes, else 0.
+func (w *Writer) Flag(yes bool) {
 	if yes {
-		return append(b, 1)
+		w.Byte(1)
+	} else {
+		w.Byte(0)
 	}
-	return append(b, 0)
 }
 
-// List is b with a list behind it: how many, and what put lays of each.
-func List[T any](b []byte, all []T, put func([]byte, T) []byte) []byte {
-	b = Number(b, len(all))
+// List lays a list: how many, and each as put lays it.
+func List[T any](w *Writer, all []T, put func(T)) {
+	w.Number(len(all))
 	for _, x := range all {
-		b = put(b, x)
+		put(x)
 	}
-	return b
 }
 
-// Reply is b with a reply behind it.
-func Reply(b []byte, r api.Reply) []byte {
-	b = Number(b, r.Status)
-	b = Number(b, r.Tag)
-	b = Text(b, r.Data)
-	b = List(b, r.Entries, putEntry)
-	return Text(b, r.Token)
+// Reply lays a reply.
+func (w *Writer) Reply(r api.Reply) {
+	w.Numbers(r.Status, r.Tag)
+	w.Text(r.Data)
+	List(w, r.Entries, w.entry)
+	w.Text(r.Token)
 }
 
-// putEntry is b with an entry of a reply behind it.
-func putEntry(b []byte, x api.Entry) []byte {
-	b = Text(b, x.Name)
-	b = Number(b, x.Tag)
-	b = Text(b, x.Data)
-	return Flag(b, x.Gone)
+// entry lays an entry of a reply.
+func (w *Writer) entry(x api.Entry) {
+	w.Text(x.Name)
+	w.Number(x.Tag)
+	w.Text(x.Data)
+	w.Flag(x.Gone)
 }
 
 // Reader reads bytes from the front on. It never stops for a fault: what it answers behind one doesn't count, and End tells which it was.
@@ -75,6 +103,11 @@ func (r *Reader) Number(low, high int) int {
 	return int(n)
 }
 
+// Whole is a number of eight bytes, whichever: the one that was laid so.
+func (r *Reader) Whole() int {
+	return int(r.word())
+}
+
 // Count is how many things stand behind: no more than there are bytes, so that a loop over them always ends.
 func (r *Reader) Count() int {
 	n := r.word()
@@ -90,14 +123,20 @@ func (r *Reader) Text() string {
 	return string(r.take(r.Count()))
 }
 
-// Flag is a byte that must be 1 or 0: is it 1?
-func (r *Reader) Flag() bool {
+// Byte is one byte.
+func (r *Reader) Byte() byte {
 	b := r.take(1)
 	if b == nil {
-		return false
+		return 0
 	}
-	r.Need(b[0] <= 1)
-	return b[0] == 1
+	return b[0]
+}
+
+// Flag is a byte that must be 1 or 0: is it 1?
+func (r *Reader) Flag() bool {
+	b := r.Byte()
+	r.Need(b <= 1)
+	return b == 1
 }
 
 // Listed is a list: how many, and each as get reads it. Where the bytes end too early it stops, however many there should be.

@@ -14,17 +14,14 @@ type row = api.Row[api.Reply]
 
 // Form is the machine's bytes.
 func (m *Machine) Form() []byte {
-	b := lay.Number(nil, m.at)
-	b = lay.Text(b, string(m.shelf.Form()))
-	return lay.List(b, m.sessions.Rows(), putRow)
-}
-
-// putRow is b with a session behind it.
-func putRow(b []byte, x row) []byte {
-	b = lay.Number(b, x.Id)
-	b = lay.Number(b, x.Last)
-	b = lay.Number(b, x.Used)
-	return lay.Reply(b, x.X)
+	var w lay.Writer
+	w.Number(m.at)
+	w.Text(string(m.shelf.Form()))
+	lay.List(&w, m.sessions.Rows(), func(x row) {
+		w.Numbers(x.Id, x.Last, x.Used)
+		w.Reply(x.X)
+	})
+	return w.Bytes()
 }
 
 // Load is the machine of these bytes: else the first of ErrShort, ErrTrail, ErrForm.
